@@ -1,0 +1,1 @@
+"""Turnery: machines that make trees of trees."""
