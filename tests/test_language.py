@@ -45,6 +45,19 @@ def bound_names(tree):
     return names
 
 
+def imported_names(tree):
+    return [each.name for node in nodes_of(tree, ast.ImportFrom) for each in node.names]
+
+
+def top_names(tree):
+    """Every name that is bound at the file's top, as often as it is."""
+    names = [node.name for node in tree.body if isinstance(node, (ast.FunctionDef, ast.ClassDef))]
+    for node in tree.body:
+        if isinstance(node, ast.Assign):
+            names += [target.id for target in node.targets]
+    return names + imported_names(tree)
+
+
 class TestLanguage(unittest.TestCase):
     @classmethod
     def setUpClass(cls):
@@ -113,6 +126,37 @@ class TestLanguage(unittest.TestCase):
                 self.assertFalse(name in vars(builtins) or name in UNUSED_NAMES, (path, name))
             for node in nodes_of(tree, ast.Name):
                 self.assertTrue(node.id in bound or node.id in OWN_NAMES, (path, node.lineno, node.id))
+
+    def test_each_name_once(self):
+        for path, tree in self.trees.items():
+            names = top_names(tree)
+            self.assertEqual(sorted(names), sorted(set(names)), path)
+            taken = imported_names(tree) + [node.name for node in nodes_of(tree, ast.ClassDef)]
+            inner = [node.arg for node in nodes_of(tree, ast.arg)]
+            inner += [node.id for node in nodes_of(tree, ast.Name) if isinstance(node.ctx, ast.Store)]
+            self.assertEqual(set(taken) & set(inner), set(), path)
+
+    def test_imports(self):
+        drawn = {path.stem: {} for path in FILES}
+        defined = {path.stem: set(top_names(tree)) - set(imported_names(tree)) for path, tree in self.trees.items()}
+        for path, tree in self.trees.items():
+            for node in nodes_of(tree, ast.ImportFrom):
+                other = node.module.split(".")[1]
+                drawn[path.stem][other] = True
+                for each in node.names:
+                    self.assertIn(each.name, defined[other], (path, node.lineno))
+        while drawn:
+            ends = [stem for stem, others in drawn.items() if not set(others) & set(drawn)]
+            self.assertNotEqual(ends, [], f"files that draw from one another: {sorted(drawn)}")
+            drawn = {stem: others for stem, others in drawn.items() if stem not in ends}
+
+    def test_methods_are_called_where_they_stand(self):
+        for path, tree in self.trees.items():
+            called = [id(node.func) for node in nodes_of(tree, ast.Call)]
+            own = [node.name for holder in nodes_of(tree, ast.ClassDef) for node in nodes_of(holder, ast.FunctionDef)]
+            for node in nodes_of(tree, ast.Attribute):
+                if node.attr in OWN_METHODS + own:
+                    self.assertIn(id(node), called, (path, node.lineno))
 
     def test_methods(self):
         own = list(OWN_METHODS) + DUNDER_METHODS
