@@ -22,6 +22,11 @@ def calls_of(term):
     return told
 
 
+def mark_put(term, mark):
+    """The mark with which the put is put out, where what is read has the mark that is handed in."""
+    return term[3] + mark if term[2] else term[3]
+
+
 def keeps_mark(term):
     """Whether some put of the term keeps the mark of what is read."""
     if is_call(term):

@@ -23,7 +23,7 @@ def at(tree, place):
     """The tree that stands at the place, or None where there is no such place."""
     here = tree
     for number in place:
-        if not has_branch(here, number):
+        if not has_number(here[2], number):
             return None
         here = here[2][number]
     return here
@@ -36,11 +36,11 @@ def put_at(tree, place, other):
     return put_below(tree, place, other)
 
 
-def has_branch(tree, number):
+def has_number(branches, number):
     # Python would take -1 for the last branch and True for the second one.
     if isinstance(number, bool):
         return False
-    return 0 <= number < len(tree[2])
+    return 0 <= number < len(branches)
 
 
 def put_below(tree, place, other):

@@ -29,14 +29,15 @@ def tree_from(reader, room):
 
 def show_tree(tree):
     """The text of the tree."""
-    return tree[0] + show_mark(tree[1]) + show_branches(tree[2])
+    return tree[0] + show_mark(tree[1]) + show_in_brackets([show_tree(branch) for branch in tree[2]])
 
 
 def show_mark(mark):
     return "" if mark == 0 else str(mark)
 
 
-def show_branches(branches):
-    if len(branches) == 0:
+def show_in_brackets(texts):
+    """The texts in brackets, parted by one blank each; nothing where there are none."""
+    if len(texts) == 0:
         return ""
-    return "(" + " ".join([show_tree(branch) for branch in branches]) + ")"
+    return "(" + " ".join(texts) + ")"

@@ -1,7 +1,8 @@
 """Woods, lists of tuples (kind, rows), which tell what trees there are."""
 
-from turnery.errors import NoText, NoWood
+from turnery.errors import NoText, NoTree, NoWood
 from turnery.readers import Reader
+from turnery.treetexts import show_in_brackets
 
 MOST_KINDS = 6
 MOST_ROWS = 16
@@ -69,13 +70,7 @@ def show_wood(wood):
 
 
 def show_rows(rows):
-    return " | ".join([name + show_branches(branches) for name, branches in rows])
-
-
-def show_branches(branches):
-    if len(branches) == 0:
-        return ""
-    return "(" + " ".join(branches) + ")"
+    return " | ".join([name + show_in_brackets(branches) for name, branches in rows])
 
 
 def rows_of(wood, kind):
@@ -95,6 +90,16 @@ def is_of(wood, kind, tree):
     if kinds is None or len(kinds) != len(branches):
         return False
     return all([is_of(wood, wanted, branch) for wanted, branch in zip(kinds, branches)])
+
+
+def need_of(wood, kind, tree):
+    if not is_of(wood, kind, tree):
+        raise NoTree(f"this is no tree of the kind {kind!r}")
+
+
+def need_in(wood, tree):
+    """Refuses what is no tree of the wood, whose trees are those of its first kind."""
+    need_of(wood, wood[0][0], tree)
 
 
 def leaf_of(wood, kind):
