@@ -1,5 +1,7 @@
 """What several test files need."""
 
+import itertools
+
 from turnery.turntexts import read_turning
 from turnery.woods import read_wood
 
@@ -93,3 +95,73 @@ def made(turning, term, mark, branches):
         return made(turning, rules[names.index(name)], its_mark, its_branches)
     parts = tuple(made(turning, part, mark, branches) for part in term[4])
     return (term[1], term[3] + mark if term[2] else term[3], parts)
+
+
+# What alike_turning's rules put out where they aren't odd: by sorts, a name and the sorts of its parts.
+PATTERN = {0: ("a", (1, 2)), 1: ("b", (2, 3)), 2: ("c", (3,)), 3: ("d", ())}
+
+
+def alike_turning(chance, wood, many, odd):
+    """Some turning of the wood, many of whose outcomes begin alike; odd tells how often a put is another one."""
+    kinds = [wood[0][0]] + [chance.choice(wood)[0] for _ in range(many - 1)]
+    sorts = [0] + [chance.randrange(len(PATTERN)) for _ in range(many - 1)]
+
+    def term(branches, sort):
+        calls = [call(mode, branch) for branch, kind in enumerate(branches) for mode in range(many)
+                 if kinds[mode] == kind and sorts[mode] == sort]
+        if calls and chance.random() < 0.6:
+            return chance.choice(calls)
+        if chance.random() < odd:
+            return put(chance.choice("cxy"), kept=chance.random() < 0.5)
+        name, parts = PATTERN[sort]
+        return put(name, *[term(branches, part) for part in parts])
+
+    modes = []
+    for kind, sort in zip(kinds, sorts):
+        modes.append((kind, [term(branches, sort) for name, branches in dict(wood)[kind]]))
+    called = [call(mode) for mode in range(many) if kinds[mode] == kinds[0] and chance.random() < 0.7]
+    start = call(0) if chance.random() < 0.3 else put("s", *called)
+    return ([(kind, list(rows)) for kind, rows in wood], start, modes)
+
+
+def one_odd(chance, turning):
+    """The turning, in one of whose rules one put or call is another one."""
+    def odd(term):
+        if term[0] == "call" or not term[4] or chance.random() < 0.4:
+            return put("x")
+        number = chance.randrange(len(term[4]))
+        return term[:4] + (term[4][:number] + (odd(term[4][number]),) + term[4][number + 1:],)
+
+    wood, start, modes = turning
+    told = [(kind, list(rules)) for kind, rules in modes]
+    rules = chance.choice(told)[1]
+    number = chance.randrange(len(rules))
+    rules[number] = odd(rules[number])
+    return (wood, start, told)
+
+
+def all_trees(wood, kind, room, mark):
+    """All trees of the kind of at most so many levels, all with the one mark."""
+    told = []
+    for name, kinds in dict(wood)[kind]:
+        if room > 1 or not kinds:
+            below = [all_trees(wood, each, room - 1, mark) for each in kinds]
+            told += [(name, mark, branches) for branches in itertools.product(*below)]
+    return told
+
+
+def marked_trees(wood, kind, room):
+    """Trees among which are two that a mode makes unlike at a place, where any two of so few levels are.
+
+    Other marks are not needed: where a mark is kept, that of 0 or that of 1 makes it unlike another one.
+    """
+    return all_trees(wood, kind, room, 0) + all_trees(wood, kind, room, 1)
+
+
+def ring(many, leaf=put("a"), last=put("b"), node=call):
+    """A turning of LINE's whose modes call one another in a ring, the last of which makes something else of a leaf.
+
+    So with the first mode a tree of as many levels as there are modes is the first to come to something else.
+    """
+    ends = [leaf] * (many - 1) + [last]
+    return (LINE, call(0), [("t", [end, node((mode + 1) % many, 0)]) for mode, end in enumerate(ends)])

@@ -12,6 +12,13 @@ def term_size(term):
     return 1 + sum([term_size(part) for part in term[4]])
 
 
+def term_levels(term):
+    """The number of puts and calls on the term's longest way down."""
+    if is_call(term):
+        return 1
+    return 1 + max([term_levels(part) for part in term[4]], default=0)
+
+
 def calls_of(term):
     """The list of the term's calls as tuples (mode, branch), as they are written."""
     if is_call(term):
@@ -20,6 +27,26 @@ def calls_of(term):
     for part in term[4]:
         told.extend(calls_of(part))
     return told
+
+
+def placed_calls(term):
+    """The list of the term's calls as tuples (place, mode, branch), as they are written."""
+    if is_call(term):
+        return [((), term[1], term[2])]
+    told = []
+    for number, part in enumerate(term[4]):
+        told.extend([((number,) + place, mode, branch) for place, mode, branch in placed_calls(part)])
+    return told
+
+
+def down_to(term, place):
+    """The put at the place and (), or the call on the way to it and what is left of the place there."""
+    here = term
+    for gone, number in enumerate(place):
+        if is_call(here):
+            return (here, place[gone:])
+        here = here[4][number]
+    return (here, ())
 
 
 def mark_put(term, mark):
@@ -46,6 +73,13 @@ def rules_in(term, terms):
     if is_call(term):
         return terms[term[1]]
     return with_parts(term, [rules_in(part, terms) for part in term[4]])
+
+
+def with_modes(term, numbers):
+    """The term, what each call has for its mode giving way to its number, out of a dict."""
+    if is_call(term):
+        return ("call", numbers[term[1]], term[2])
+    return with_parts(term, [with_modes(part, numbers) for part in term[4]])
 
 
 def on_branch(term, branch):

@@ -2,10 +2,10 @@
 
 from turnery.errors import NoText, NoTurning
 from turnery.readers import Reader
-from turnery.terms import is_call, term_size, with_parts
+from turnery.terms import calls_of, is_call, term_size, with_modes
 from turnery.treetexts import show_in_brackets, show_mark
 from turnery.turnings import is_sound
-from turnery.woods import has_one_twice, row_of, rows_of
+from turnery.woods import has_one_twice, own_wood, row_of, rows_of
 from turnery.words import LETTERS
 
 MOST_RULES = 40
@@ -57,7 +57,7 @@ def check_numbers(start, rules):
 
 def turning_of(wood, start, rules):
     """The turning of what was read, with a wood of its own."""
-    own = [(kind, list(rows)) for kind, rows in wood]
+    own = own_wood(wood)
     by_modes = {}
     for rule in rules:
         by_modes.setdefault(rule[0], []).append(rule)
@@ -93,12 +93,10 @@ def check_mode(wood, mode, kind, rules):
 
 def numbered(term, numbers):
     """The term, the modes' names in its calls giving way to their numbers."""
-    if is_call(term):
-        mode = term[1]
+    for mode, branch in calls_of(term):
         if mode not in numbers:
             raise NoTurning(f"the mode {mode!r} is called and has no rules")
-        return ("call", numbers[mode], term[2])
-    return with_parts(term, [numbered(part, numbers) for part in term[4]])
+    return with_modes(term, numbers)
 
 
 def show_turning(turning):

@@ -73,6 +73,11 @@ def show_rows(rows):
     return " | ".join([name + show_in_brackets(branches) for name, branches in rows])
 
 
+def own_wood(wood):
+    """The same wood in lists of its own."""
+    return [(kind, list(rows)) for kind, rows in wood]
+
+
 def rows_of(wood, kind):
     """The kind's rows; none where the kind isn't told, as each kind that is told has at least one."""
     return dict(wood).get(kind, [])
