@@ -1,8 +1,14 @@
 """What several test files need."""
 
+import copy
 import itertools
 
-from turnery.turntexts import read_turning
+from turnery.counting import many as many_names
+from turnery.counting import seen, tall
+from turnery.running import turned
+from turnery.trees import levels, places, size
+from turnery.turnings import is_sound
+from turnery.turntexts import read_turning, show_turning
 from turnery.woods import read_wood
 
 MOST = 10 ** 60 - 1
@@ -101,15 +107,18 @@ def made(turning, term, mark, branches):
 PATTERN = {0: ("a", (1, 2)), 1: ("b", (2, 3)), 2: ("c", (3,)), 3: ("d", ())}
 
 
-def alike_turning(chance, wood, many, odd):
-    """Some turning of the wood, many of whose outcomes begin alike; odd tells how often a put is another one."""
+def alike_turning(chance, wood, many, odd, calling=0.6):
+    """Some turning of the wood, many of whose outcomes begin alike.
+
+    odd tells how often a put is another one, calling how often there is a call where there could be one.
+    """
     kinds = [wood[0][0]] + [chance.choice(wood)[0] for _ in range(many - 1)]
     sorts = [0] + [chance.randrange(len(PATTERN)) for _ in range(many - 1)]
 
     def term(branches, sort):
         calls = [call(mode, branch) for branch, kind in enumerate(branches) for mode in range(many)
                  if kinds[mode] == kind and sorts[mode] == sort]
-        if calls and chance.random() < 0.6:
+        if calls and chance.random() < calling:
             return chance.choice(calls)
         if chance.random() < odd:
             return put(chance.choice("cxy"), kept=chance.random() < 0.5)
@@ -165,3 +174,146 @@ def ring(many, leaf=put("a"), last=put("b"), node=call):
     """
     ends = [leaf] * (many - 1) + [last]
     return (LINE, call(0), [("t", [end, node((mode + 1) % many, 0)]) for mode, end in enumerate(ends)])
+
+
+def own_marks(tree):
+    """The tree, each of whose names has a mark of its own.
+
+    Where two turnings, whose adds are small, make the same of it, they do so whatever its marks are.
+    """
+    marks = itertools.count(1000, 1000)
+
+    def marked(each):
+        return (each[0], next(marks), tuple(marked(branch) for branch in each[2]))
+
+    return marked(tree)
+
+
+def with_calls(term, change):
+    """The term, each call giving way to what change tells of its mode and branch."""
+    if term[0] == "call":
+        return change(term[1], term[2])
+    return term[:4] + (tuple(with_calls(part, change) for part in term[4]),)
+
+
+def with_terms(turning, change):
+    """The turning, each term, the start too, giving way to what change tells of it and of the row's kinds."""
+    wood, start, modes = turning
+    told = [(kind, [change(rule, row[1]) for rule, row in zip(rules, dict(wood)[kind])]) for kind, rules in modes]
+    return ([(kind, list(rows)) for kind, rows in wood], change(start, (wood[0][0],)), told)
+
+
+def doubled(chance, turning):
+    """The same with each mode twice, one or the other of which is called."""
+    many = len(turning[2])
+    wood, start, modes = turning
+    return with_terms((wood, start, modes + modes), lambda term, kinds: with_calls(
+        term, lambda mode, branch: call(mode + many * chance.randrange(2), branch)))
+
+
+def shuffled(chance, turning):
+    """The same with its modes in another order."""
+    order = list(range(len(turning[2])))
+    chance.shuffle(order)
+    wood, start, modes = with_terms(turning, lambda term, kinds: with_calls(
+        term, lambda mode, branch: call(order.index(mode), branch)))
+    return (wood, start, [modes[mode] for mode in order])
+
+
+def put_later(chance, turning):
+    """The same, in which some of what a rule puts out is put out by new modes, that are called instead."""
+    wood, start, modes = turning
+    new = []
+
+    def later(term, kinds):
+        branches = {branch for mode, branch in calls_in(term)} or set(range(len(kinds)))
+        if term[0] == "put" and len(branches) == 1 and not keeps(term) and chance.random() < 0.6:
+            branch = min(branches)
+            new.append((kinds[branch], [
+                with_calls(term, lambda mode, its_branch: modes[mode][1][number])
+                for number in range(len(dict(wood)[kinds[branch]]))]))
+            return call(len(modes) + len(new) - 1, branch)
+        return term if term[0] == "call" else term[:4] + (tuple(later(part, kinds) for part in term[4]),)
+
+    wood, start, told = with_terms(turning, later)
+    return (wood, start, told + new)
+
+
+def calls_in(term):
+    return [term[1:]] if term[0] == "call" else [each for part in term[4] for each in calls_in(part)]
+
+
+def keeps(term):
+    return term[0] == "put" and (term[2] or any(keeps(part) for part in term[4]))
+
+
+def rewritten(chance, turning):
+    """A turning that makes the same and is written otherwise."""
+    for change in chance.choices([doubled, shuffled, put_later], k=3):
+        turning = change(chance, turning)
+    return turning
+
+
+def some_trees(chance, wood, deepest):
+    """All small trees of the wood, and some of at most so many levels."""
+    kind = wood[0][0]
+    return all_trees(wood, kind, deepest - 2, 0) + [grown_tree(chance, wood, kind, deepest) for _ in range(5)]
+
+
+def makes_the_same(case, turning, told, trees):
+    """Holds what is told of both turnings' outcomes of these trees against one another."""
+    for tree in trees:
+        outcome = made(turning, turning[1], 0, (tree,))
+        case.assertEqual((many_names(told, tree), tall(told, tree)), (size(outcome), levels(outcome)))
+        if size(outcome) <= 400:
+            case.assertEqual(turned(told, tree), outcome)
+            for place in places(outcome)[:9]:
+                case.assertEqual(seen(told, tree, place), seen(turning, tree, place))
+                case.assertEqual(seen(told, tree, place + (4,)), seen(turning, tree, place + (4,)))
+
+
+def shows_turnings(case, function, wood, pairs):
+    """Holds what the function makes of turnings of the wood against texts: pairs of what is handed in and told."""
+    for text, told in pairs:
+        found = function(read_turning(wood, text))
+        case.assertEqual(show_turning(found), told)
+        case.assertEqual(found[0], wood)
+        case.assertTrue(is_sound(*found))
+
+
+def tells_new_turnings(case, function):
+    """Whether what the function makes of a turning is the asker's own."""
+    turning = copy.deepcopy(TURN)
+    told = function(turning)
+    again = function(turning)
+    case.assertEqual(told, again)
+    told[0][0][1].clear()
+    told[0].clear()
+    for kind, rules in told[2]:
+        rules.clear()
+    told[2].clear()
+    case.assertEqual(turning, TURN)
+    case.assertEqual(function(turning), again)
+    turning[0][0][1].clear()
+    turning[0].clear()
+    turning[2][0][1].clear()
+    turning[2].clear()
+    case.assertEqual(again, function(TURN))
+    # Also where nothing is other than in what is handed in.
+    turning = copy.deepcopy(ADDED)
+    told = function(turning)
+    case.assertEqual(told, turning)
+    told[0][0][1].append("x")
+    told[2][0][1].append("x")
+    told[2].append("x")
+    case.assertEqual(turning, ADDED)
+
+
+def tells_turnings(case, function):
+    """Whether what the function makes of a turning is of the right kinds."""
+    told = function(TURN)
+    case.assertEqual([type(each) for each in told], [list, tuple, list])
+    case.assertEqual([type(each) for each in told[0]], [tuple] * 3)
+    for kind, rules in told[2]:
+        case.assertEqual((type(kind), type(rules)), (str, list))
+        case.assertEqual({type(rule) for rule in rules}, {tuple})

@@ -2,16 +2,15 @@ import copy
 import random
 import unittest
 
-from tests.helper import (ADDED, LINE, LIST, MOST, TURN, WOOD, alike_turning, all_trees, call, grown_tree,
-                          grown_turning, line, line_term, made, one_odd, put, ring, wide_term)
+from tests.helper import (ADDED, LINE, LIST, MOST, TURN, WOOD, alike_turning, call, grown_turning, line, line_term,
+                          makes_the_same, one_odd, put, ring, shows_turnings, some_trees, tells_new_turnings,
+                          tells_turnings, wide_term)
 from turnery.commons import commons
-from turnery.counting import many, seen, tall
 from turnery.early import early
 from turnery.errors import TooGreat
-from turnery.running import reached, turned
+from turnery.running import reached
 from turnery.stumps import opens
 from turnery.terms import term_size
-from turnery.trees import levels, places, size
 from turnery.turnings import is_sound
 from turnery.turntexts import read_turning, show_turning
 from turnery.woods import read_wood
@@ -69,12 +68,7 @@ def early_by_words(turning):
 
 class TestSmall(unittest.TestCase):
     def shows(self, wood, *pairs):
-        for text, told in pairs:
-            turning = read_turning(wood, text)
-            found = early(turning)
-            self.assertEqual(show_turning(found), told)
-            self.assertEqual(found[0], wood)
-            self.assertTrue(is_sound(*found))
+        shows_turnings(self, early, wood, pairs)
 
     def test_the_examples(self):
         self.assertEqual(early(ADDED), ADDED)
@@ -193,39 +187,28 @@ class TestTheSame(unittest.TestCase):
         self.assertEqual(commons(told), [OPEN] * len(told[2]))
         self.assertEqual(reached(told), list(range(len(told[2]))))
         self.assertEqual(early(told), told)
-        for tree in trees:
-            outcome = made(turning, turning[1], 0, (tree,))
-            self.assertEqual((many(told, tree), tall(told, tree)), (size(outcome), levels(outcome)))
-            if size(outcome) <= 400:
-                self.assertEqual(turned(told, tree), outcome)
-                for place in places(outcome)[:9]:
-                    self.assertEqual(seen(told, tree, place), seen(turning, tree, place))
-                    self.assertEqual(seen(told, tree, place + (4,)), seen(turning, tree, place + (4,)))
+        makes_the_same(self, turning, told, trees)
         return len(told[2])
-
-    def trees(self, chance, wood, deepest):
-        kind = wood[0][0]
-        return all_trees(wood, kind, deepest - 2, 0) + [grown_tree(chance, wood, kind, deepest) for _ in range(5)]
 
     def test_the_examples(self):
         chance = random.Random(30)
-        self.assertEqual(self.held(ADDED, self.trees(chance, LIST, 6)), 2)
-        self.assertEqual(self.held(TURN, self.trees(chance, WOOD, 4)), 4)
+        self.assertEqual(self.held(ADDED, some_trees(chance, LIST, 6)), 2)
+        self.assertEqual(self.held(TURN, some_trees(chance, WOOD, 4)), 4)
 
     def test_rings(self):
         chance = random.Random(31)
         for length in [2, 5, 40]:
             self.assertEqual(self.held(ring(length), [line(deep) for deep in range(1, 41)]), length)
         split_in_two = ring(6, put("a", put("b"), put("c")), put("a", put("b", kept=True), put("d")))
-        self.assertEqual(self.held(split_in_two, self.trees(chance, LINE, 12)), 12)
+        self.assertEqual(self.held(split_in_two, some_trees(chance, LINE, 12)), 12)
         whole = ring(6, put("a", put("b")), put("a", put("b")))
-        self.assertEqual(self.held(whole, self.trees(chance, LINE, 12)), 0)
+        self.assertEqual(self.held(whole, some_trees(chance, LINE, 12)), 0)
 
     def test_grown(self):
         chance = random.Random(32)
         for number in range(120):
             wood, deepest = [(LIST, 5), (WOOD, 4), (LINE, 6)][number % 3]
-            self.held(grown_turning(chance, wood, chance.randrange(1, 5), 3), self.trees(chance, wood, deepest))
+            self.held(grown_turning(chance, wood, chance.randrange(1, 5), 3), some_trees(chance, wood, deepest))
 
     def test_grown_alike(self):
         chance = random.Random(33)
@@ -236,7 +219,7 @@ class TestTheSame(unittest.TestCase):
                 turning = one_odd(chance, alike_turning(chance, wood, chance.randrange(3, 14), 0))
             else:
                 turning = alike_turning(chance, wood, chance.randrange(1, 10), 0.1)
-            told.append(self.held(turning, self.trees(chance, wood, deepest)))
+            told.append(self.held(turning, some_trees(chance, wood, deepest)))
         for modes in [0, 1, 2, 3, 4, 5]:
             self.assertGreater(told.count(modes), 2, modes)
         self.assertNotIn(None, told)
@@ -361,39 +344,10 @@ class TestTooGreat(unittest.TestCase):
 
 class TestOwn(unittest.TestCase):
     def test_the_wood_and_the_modes_are_new(self):
-        turning = copy.deepcopy(TURN)
-        told = early(turning)
-        again = early(turning)
-        self.assertEqual(told, again)
-        told[0][0][1].clear()
-        told[0].clear()
-        for kind, rules in told[2]:
-            rules.clear()
-        told[2].clear()
-        self.assertEqual(turning, TURN)
-        self.assertEqual(early(turning), again)
-        turning[0][0][1].clear()
-        turning[0].clear()
-        turning[2][0][1].clear()
-        turning[2].clear()
-        self.assertEqual(again, early(TURN))
-
-    def test_new_also_where_nothing_is_other(self):
-        turning = copy.deepcopy(ADDED)
-        told = early(turning)
-        self.assertEqual(told, turning)
-        told[0][0][1].append("x")
-        told[2][0][1].append("x")
-        told[2].append("x")
-        self.assertEqual(turning, ADDED)
+        tells_new_turnings(self, early)
 
     def test_kinds(self):
-        told = early(TURN)
-        self.assertEqual([type(each) for each in told], [list, tuple, list])
-        self.assertEqual([type(each) for each in told[0]], [tuple] * 3)
-        for kind, rules in told[2]:
-            self.assertEqual((type(kind), type(rules)), (str, list))
-            self.assertEqual({type(rule) for rule in rules}, {tuple})
+        tells_turnings(self, early)
         stump_put = early(read_turning(LINE, "*q0; q t l : a5(b); q t n : a5(c)"))[1]
         self.assertEqual([type(each) for each in stump_put], [str, str, bool, int, tuple])
         self.assertIs(stump_put[2], False)

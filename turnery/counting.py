@@ -1,7 +1,7 @@
 """What is told of outcomes without making them, however great they are."""
 
 from turnery.outcomes import above, outcome
-from turnery.terms import is_call, mark_put
+from turnery.terms import is_call, put_head
 from turnery.trees import has_number
 from turnery.turnings import rule_of
 from turnery.woods import need_in, need_of
@@ -46,8 +46,7 @@ def seen_by(turning, term, tree, place):
         if not has_number(parts, number):
             return None
         here = first_put(turning, parts[number], here[1])
-    put = here[0]
-    return (put[1], mark_put(put, here[1][1]), len(put[4]))
+    return put_head(here[0], here[1][1])
 
 
 def first_put(turning, term, tree):

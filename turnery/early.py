@@ -13,7 +13,11 @@ MOST_LEVELS = 60
 
 def early(turning):
     """The turning that makes the same, by modes none of whose outcomes all begin alike."""
-    stumps = commons(turning)
+    return early_by(turning, commons(turning))[0]
+
+
+def early_by(turning, stumps):
+    """The early turning by these common stumps, and a dict of its modes' numbers by pairs of a mode and a place."""
     start = early_term(turning[1], (), stumps)
     return as_met(turning[0], start, lambda pair: early_mode(turning, stumps, pair), MOST_MODES)
 

@@ -6,7 +6,7 @@ from turnery.woods import own_wood
 
 
 def as_met(wood, start, mode_by, most):
-    """The turning with this start, its modes numbered as they are met.
+    """The turning with this start, its modes numbered as they are met, and a dict of their numbers.
 
     In the start and the rules calls may have anything for a mode that can be a dict's key; mode_by tells the tuple
     (kind, rules) of such a one. Refused with TooGreat where more than most modes are met.
@@ -19,7 +19,8 @@ def as_met(wood, start, mode_by, most):
         for rule in mode[1]:
             number_calls(numbers, rule, most)
         modes.append(mode)
-    return (own_wood(wood), with_modes(start, numbers), [numbered_mode(mode, numbers) for mode in modes])
+    turning = (own_wood(wood), with_modes(start, numbers), [numbered_mode(mode, numbers) for mode in modes])
+    return (turning, numbers)
 
 
 def number_calls(numbers, term, most):

@@ -4,7 +4,7 @@ from turnery.commons import commons, stages_within
 from turnery.counting import seen_in
 from turnery.errors import TooGreat
 from turnery.stumps import head, is_open, opens, stump_at
-from turnery.terms import down_to, is_call, mark_put, placed_calls
+from turnery.terms import down_to, is_call, placed_calls, put_head
 from turnery.trees import put_at
 from turnery.turnings import rule_of
 from turnery.woods import leaf_of, row_of, rows_of
@@ -99,6 +99,6 @@ def is_unlike(stump, seen):
 def unlike_mark(put, seen):
     """A mark with which the put puts out what isn't seen, or None where it does so with none."""
     for mark in [0, 1]:
-        if (put[1], mark_put(put, mark), len(put[4])) != seen:
+        if put_head(put, mark) != seen:
             return mark
     return None

@@ -54,6 +54,11 @@ def mark_put(term, mark):
     return term[3] + mark if term[2] else term[3]
 
 
+def put_head(term, mark):
+    """(name, mark, number of branches) that the put puts out, where what is read has the mark that is handed in."""
+    return (term[1], mark_put(term, mark), len(term[4]))
+
+
 def keeps_mark(term):
     """Whether some put of the term keeps the mark of what is read."""
     if is_call(term):
@@ -76,7 +81,7 @@ def rules_in(term, terms):
 
 
 def with_modes(term, numbers):
-    """The term, what each call has for its mode giving way to its number, out of a dict."""
+    """The term, what each call has for its mode giving way to its number, out of a dict (or a list)."""
     if is_call(term):
         return ("call", numbers[term[1]], term[2])
     return with_parts(term, [with_modes(part, numbers) for part in term[4]])
@@ -90,3 +95,8 @@ def on_branch(term, branch):
 
 def with_parts(term, parts):
     return ("put", term[1], term[2], term[3], tuple(parts))
+
+
+def tree_term(tree):
+    """The term that puts out the tree, whatever is read."""
+    return ("put", tree[0], False, tree[1], tuple([tree_term(branch) for branch in tree[2]]))

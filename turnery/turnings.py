@@ -1,5 +1,6 @@
 """Turnings, tuples (wood, start, modes), and what makes them sound."""
 
+from turnery.errors import OtherWood
 from turnery.terms import calls_of, keeps_mark
 from turnery.woods import rows_of
 
@@ -40,3 +41,9 @@ def call_fits(modes, mode, branch, kinds):
     if not 0 <= mode < len(modes) or not 0 <= branch < len(kinds):
         return False
     return modes[mode][0] == kinds[branch]
+
+
+def need_one_wood(one, other):
+    """Refuses turnings whose woods are not the same."""
+    if one[0] != other[0]:
+        raise OtherWood("the turnings are of unlike woods")
