@@ -176,6 +176,15 @@ def ring(many, leaf=put("a"), last=put("b"), node=call):
     return (LINE, call(0), [("t", [end, node((mode + 1) % many, 0)]) for mode, end in enumerate(ends)])
 
 
+def odd_at_the_end(many):
+    """A turning of LINE's whose modes come one behind the other, the last of which makes something else of an n.
+
+    So with the first mode it takes one level more than there are modes.
+    """
+    modes = [("t", [put("a"), call(mode + 1, 0)]) for mode in range(many - 1)]
+    return (LINE, call(0), modes + [("t", [put("a"), put("b")])])
+
+
 def own_marks(tree):
     """The tree, each of whose names has a mark of its own.
 
@@ -317,3 +326,58 @@ def tells_turnings(case, function):
     for kind, rules in told[2]:
         case.assertEqual((type(kind), type(rules)), (str, list))
         case.assertEqual({type(rule) for rule in rules}, {tuple})
+
+
+# Woods whose names are a, b and c: one kind, kinds that share their names, and three kinds.
+ABC = read_wood("t = a | b(t) | c(t t)")
+SHARED = read_wood("t = a | b(u) | c(u t); u = a | b(t t) | c(t)")
+THREE = read_wood("t = a | b(v t) | c(u); u = b | a(t) | c(v u); v = a | b(u u) | c(t v t)")
+
+
+def turning_into(chance, wood, other, many, room, odd=0):
+    """Some turning of the wood, of so many modes, whose outcomes are trees of the other one but where they are odd."""
+    kinds = [wood[0][0]] + [chance.choice(wood)[0] for _ in range(many - 1)]
+    wants = [other[0][0]] + [chance.choice(other)[0] for _ in range(many - 1)]
+
+    def term(kind, branches, room, keeps_marks):
+        calls = [call(mode, branch) for branch, its_kind in enumerate(branches) for mode in range(many)
+                 if kinds[mode] == its_kind and wants[mode] == kind]
+        if calls and chance.random() < 0.5:
+            return chance.choice(calls)
+        if chance.random() < odd:
+            return put(chance.choice("abcx"), *[put("a")] * chance.randrange(3))
+        name, below = chance.choice([row for row in dict(other)[kind] if room > 1 or not row[1]])
+        parts = [term(each, branches, room - 1, keeps_marks) for each in below]
+        return put(name, *parts, kept=keeps_marks and chance.random() < 0.5, add=chance.randrange(-2, 3))
+
+    modes = [(kind, [term(want, row[1], room, True) for row in dict(wood)[kind]]) for kind, want in zip(kinds, wants)]
+    start = call(0) if chance.random() < 0.7 else term(wants[0], kinds[:1], room, False)
+    return ([(kind, list(rows)) for kind, rows in wood], start, modes)
+
+
+def refuses(case, error, function, *handed):
+    """Whether the function refuses with just this error, and leaves what is handed in as it is."""
+    before = copy.deepcopy(handed)
+    with case.assertRaises(error) as caught:
+        function(*handed)
+    case.assertIs(type(caught.exception), error)
+    case.assertEqual(handed, before)
+
+
+def asked_twice(case, function, *handed):
+    """What the function tells, twice the same, of what stays as it is."""
+    before = copy.deepcopy(handed)
+    told = function(*handed)
+    case.assertEqual(handed, before)
+    case.assertEqual(function(*handed), told)
+    return told
+
+
+def spoil(thing):
+    """Spoils every list in what is handed in."""
+    if isinstance(thing, (list, tuple)):
+        for each in thing:
+            spoil(each)
+    if isinstance(thing, list):
+        thing.clear()
+        thing.append("spoilt")

@@ -170,6 +170,34 @@ class TestLanguage(unittest.TestCase):
                 if isinstance(node.func, ast.Attribute):
                     self.assertIn(node.func.attr, own, (path, node.lineno))
 
+    def test_parameters_and_annotations(self):
+        for path, tree in self.trees.items():
+            for node in nodes_of(tree, ast.arguments):
+                others = (node.vararg, node.kwarg, node.kwonlyargs, node.posonlyargs)
+                self.assertEqual(others, (None, None, [], []), path)
+            for node in nodes_of(tree, ast.arg):
+                self.assertIsNone(node.annotation, (path, node.lineno))
+
+    def test_classes(self):
+        methods, values = set(), set()
+        for path, tree in self.trees.items():
+            for holder in nodes_of(tree, ast.ClassDef):
+                self.assertIn(holder, tree.body, (path, holder.name))
+                self.assertLessEqual(len(holder.bases), 1, (path, holder.name))
+                for node in holder.body:
+                    plain = isinstance(node, ast.FunctionDef) or node is holder.body[0] and ast.get_docstring(holder)
+                    self.assertTrue(plain, (path, node.lineno))
+                names = [node.name for node in holder.body if isinstance(node, ast.FunctionDef)]
+                self.assertEqual(len(names), len(set(names)), (path, holder.name))
+                methods.update(names)
+            for node in nodes_of(tree, ast.FunctionDef):
+                self.assertTrue(node.name != "__init__" or not nodes_of(node, ast.Return), (path, node.lineno))
+            values.update(node.attr for node in nodes_of(tree, ast.Attribute) if isinstance(node.ctx, ast.Store))
+        self.assertEqual(methods & values, set())
+        taken = set().union(*[set(dir(kind)) for kind in (str, int, list, dict, set, tuple, bytes)])
+        self.assertEqual((methods - set(DUNDER_METHODS)) & taken, set())
+        self.assertEqual(values & taken, set())
+
     def test_is_beside_none_and_truths_alone(self):
         for path, tree in self.trees.items():
             for node in nodes_of(tree, ast.Compare):

@@ -3,7 +3,7 @@ import random
 import unittest
 
 from tests.helper import (ADDED, LINE, LIST, MOST, TURN, WOOD, alike_turning, all_trees, call, grown_turning,
-                          line_term, made, one_odd, own_marks, put, rewritten, ring, wide_term)
+                          line_term, made, odd_at_the_end, one_odd, own_marks, put, rewritten, ring, wide_term)
 from turnery.counting import seen
 from turnery.errors import OtherWood, TooGreat
 from turnery.least import least, stand
@@ -205,15 +205,10 @@ class TestParted(Held):
         self.both(ring(41), ring(40), 40)
 
     def test_rows_with_branches_that_part_at_forty_and_more(self):
-        # Here not a leaf but the name above it parts, so it takes one level more than there are modes.
-        def odd(many):
-            modes = [("t", [put("a"), call(mode + 1, 0)]) for mode in range(many - 1)]
-            return (LINE, call(0), modes + [("t", [put("a"), put("b")])])
-
         for many in [1, 2, 38, 39]:
-            self.both(odd(many), (LINE, put("a"), []), many + 1)
+            self.both(odd_at_the_end(many), (LINE, put("a"), []), many + 1)
         for many in [40, 41, 200]:
-            for pair in [(odd(many), (LINE, put("a"), [])), ((LINE, put("a"), []), odd(many))]:
+            for pair in [(odd_at_the_end(many), (LINE, put("a"), [])), ((LINE, put("a"), []), odd_at_the_end(many))]:
                 with self.assertRaises(TooGreat):
                     held(*pair)
 

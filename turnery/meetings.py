@@ -1,10 +1,10 @@
 """The search for a tree that parts two turnings of one wood."""
 
 from turnery.running import turned_in
-from turnery.splits import leafy
 from turnery.stumps import OPEN, is_open
 from turnery.terms import down_to, is_call, put_head, tree_term
-from turnery.trees import at, put_at
+from turnery.trees import at
+from turnery.ways import row_above, tree_on
 from turnery.woods import leaf_of, rows_of
 
 # Where two puts are unlike with any mark on what is read, they are so with one of these.
@@ -29,9 +29,8 @@ class Meetings:
 
     def begin(self):
         """The tree of one level and the place by which the turnings part, or None."""
-        # A start is like a rule for a name above the tree.
         spots = tuple([(turning[1], ()) for turning in self.turnings])
-        found = self.meet(spots, (), (), ("", (self.wood[0][0],)))
+        found = self.meet(spots, (), (), row_above(self.wood))
         return self.by_rows(self.waiting, False) if found is None else found
 
     def go_on(self):
@@ -66,7 +65,7 @@ class Meetings:
         if is_call(one) or is_call(other):
             self.head_waits(spots, place, way, row)
         elif unlike_with(one, other) is not None:
-            return (self.tree_on(way, row, unlike_with(one, other)), place)
+            return (tree_on(self.wood, way, row, unlike_with(one, other)), place)
         return self.parts_meet(spots, place, way, row)
 
     def parts_meet(self, spots, place, way, row):
@@ -105,13 +104,6 @@ class Meetings:
         if key not in self.known:
             self.known[key] = True
             self.waiting.append((key, place, way))
-
-    def tree_on(self, way, row, mark):
-        """The tree with this row, with the mark, at the end of the way."""
-        tree = leafy(self.wood, row[0], mark, row[1])
-        for above, its_mark, branch in reversed(way):
-            tree = put_at(leafy(self.wood, above[0], its_mark, above[1]), (branch,), tree)
-        return tree[2][0]
 
 
 def kind_below(way):

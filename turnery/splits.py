@@ -7,6 +7,7 @@ from turnery.stumps import head, is_open, opens, stump_at
 from turnery.terms import down_to, is_call, placed_calls, put_head
 from turnery.trees import put_at
 from turnery.turnings import rule_of
+from turnery.ways import leafy
 from turnery.woods import leaf_of, row_of, rows_of
 
 MOST_LEVELS = 40
@@ -48,11 +49,6 @@ def first_open(stumps, calls):
         for place in opens(stumps[mode]):
             return (above, mode, place)
     return None
-
-
-def leafy(wood, name, mark, kinds):
-    """A tree of the row's whose branches are leaves."""
-    return (name, mark, tuple([leaf_of(wood, kind) for kind in kinds]))
 
 
 def with_each(tree, branch, others):

@@ -26,6 +26,11 @@ def words(text):
     return told
 
 
+def is_name(word):
+    """Whether the text is a name."""
+    return 1 <= len(word) <= MOST_LETTERS and all([sign in LETTERS for sign in word])
+
+
 def word_at(text, start):
     first = text[start]
     if first in SIGNS:
